@@ -115,6 +115,13 @@ func TestTotals(t *testing.T) {
 	hear(t, a, true, chunk(0, 3, s[:1]...))
 	check(t, a, api.Record{Trace: 7, Job: 5, Class: 2, Whole: true, Parts: []api.Part{{Agent: 1, Spans: s[:3]}}}, true)
 
+	// As many as Count, but not all chunks are there.
+	a = assemble.New(7, 5)
+	hear(t, a, true, chunk(0, 2, s[:2]...), manifest(part(1, 2, false)))
+	check(t, a, api.Record{}, false, 1)
+	hear(t, a, true, chunk(1, 2))
+	check(t, a, api.Record{Trace: 7, Job: 5, Class: 2, Whole: true, Parts: []api.Part{{Agent: 1, Spans: s[:2]}}}, true)
+
 	// All are there, but they aren't as many as Count, or no row.
 	for _, spans := range [][]api.Span{nil, s[:1], {s[1], s[0]}, {s[0], s[0]}, {s[1], s[2]}, {s[0], s[2]}} {
 		a := assemble.New(7, 5)

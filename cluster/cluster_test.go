@@ -3,12 +3,14 @@ package cluster_test
 import (
 	"fmt"
 	"math"
+	"slices"
 	"strings"
 	"testing"
 
 	"spoor/api"
 	"spoor/cluster"
 	"spoor/hash"
+	"spoor/msg"
 	"spoor/seglog"
 )
 
@@ -171,7 +173,6 @@ func TestFromNameToName(t *testing.T) {
 	}
 	do(t, x, api.Act{Kind: api.AQuery, T: 7}, cluster.Answer{N: 2, Text: seglog.Print(last)})
 	do(t, x, api.Act{Kind: api.AQuery, T: 8}, cluster.Answer{})
-	do(t, x, api.Act{Kind: api.AQuery, T: 0}, cluster.Answer{})
 }
 
 func TestWhatIsLost(t *testing.T) {
@@ -277,7 +278,7 @@ func TestFairEnds(t *testing.T) {
 	if x.Way() != 1 || x.Coord().Jobs() != 0 {
 		t.Error("no round")
 	}
-	x.Fair(math.MaxInt)
+	x.Fair(100000)
 	if x.Way() != 0 || x.Coord().Jobs() != 0 || len(x.Store().Records()) != 1 {
 		t.Error("many rounds")
 	}
@@ -296,6 +297,39 @@ func TestFairEnds(t *testing.T) {
 			x.Do(api.Act{Kind: api.ADrop})
 		}
 		do(t, x, api.Act{Kind: api.ATrigger, T: 7}, cluster.Answer{Err: api.ErrLimit})
+	}
+}
+
+// fill writes records into the collector till there is no room for a small one.
+func fill(x *cluster.Cluster) {
+	text := strings.Repeat("a", 40)
+	for job, spans := 1000, 24; spans >= 0; job++ {
+		r := x.Store().Refused()
+		total := max(1, (spans+1)/2)
+		for i := range total {
+			list := row(9, slices.Repeat([]string{text}, spans)...)[2*i : min(2*i+2, spans)]
+			x.Store().Hear(msg.Chunk{Trace: 9, Job: job, Index: i, Total: total, Spans: list})
+		}
+		x.Store().Hear(msg.Manifest{Trace: 9, Job: job, Parts: []msg.Pinned{{Trace: 9, Job: job, Count: spans}}})
+		if x.Store().Refused() > r {
+			spans--
+		}
+	}
+}
+
+func TestFairOutlastsLeases(t *testing.T) {
+	c := config()
+	c.Lease = 1000
+	for _, rounds := range []int{900, 1100} {
+		x := fresh(t, c)
+		fill(x)
+		x.Do(api.Act{Kind: api.ASpan, T: 7, Text: strings.Repeat("a", 40)})
+		x.Do(api.Act{Kind: api.ATrigger, T: 7})
+		x.Fair(rounds)
+		// The disk has no room: the job goes on till the lease runs out.
+		if held := x.Agent(0).Job(7) == 1; held != (rounds < 1000) || (x.Coord().Jobs() == 1) != held || len(x.Store().Query(7, -1)) != 0 {
+			t.Errorf("behind %d rounds it is held for the job %d, there are %d jobs", rounds, x.Agent(0).Job(7), x.Coord().Jobs())
+		}
 	}
 }
 

@@ -117,6 +117,9 @@ func TestJobsAtATime(t *testing.T) {
 	}
 	hear(t, c, msg.Trigger{Agent: 3, Trace: 6})
 	hear(t, c, msg.Trigger{Agent: 1, Trace: 5})
+	hear(t, c, msg.Trigger{Agent: 1, Trace: 65536})
+	hear(t, c, msg.Trigger{Agent: -1, Trace: 6})
+	hear(t, c, msg.Trigger{Agent: 1, Trace: 6, Class: 4})
 	if c.Refused() != 0 {
 		t.Error("what isn't refused for want of room is counted")
 	}

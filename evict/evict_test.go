@@ -76,6 +76,7 @@ func TestErrorsInOrder(t *testing.T) {
 	k, _ := evict.New(1, 3)
 	long := strings.Repeat("a", 41)
 	k.Pin(0)
+	k.Pin(65536)
 	k.Pin(order[2])
 	for _, trace := range []int{math.MinInt, -1, 0, 65536} {
 		if _, e := k.Write(trace, ""); e != api.ErrArg {
@@ -103,6 +104,10 @@ func TestErrorsInOrder(t *testing.T) {
 	}
 	if s, e := k.Write(order[2], strings.Repeat("\xff", 40)); e != api.OK || s.Seq != 2 {
 		t.Errorf("a text of 40 bytes: %v", e)
+	}
+	k, _ = evict.New(1, 3)
+	if _, e := k.Write(65535, ""); e != api.OK {
+		t.Errorf("a span of 65535: %v", e)
 	}
 }
 

@@ -209,7 +209,7 @@ func TestReadOfWrongTexts(t *testing.T) {
 			s    string
 			want api.Errno
 		}{
-			{body + number(high^1, low), api.ErrSum}, {body + number(high, low^1), api.ErrSum}, {body + number(65535-high, 65535-low), api.ErrSum},
+			{body + number(high^1, low), api.ErrSum}, {body + number(high, low^1), api.ErrSum}, {body + number(65535-high, 65535-low), api.ErrSum}, {body + number(0, 0), api.ErrSum}, {body + number(65535, 65535), api.ErrSum},
 			{body + number(65536, low), api.ErrForm}, {body + number(high, 65536), api.ErrForm}, {body + number(high), api.ErrForm}, {s + number(0), api.ErrForm}, {s + "a", api.ErrForm}, {s + s, api.ErrForm}, {"a" + s, api.ErrForm},
 			{body + number(high^1, low, 0), api.ErrForm}, {number(0) + body + number(1, 1), api.ErrForm}, {number(11) + body + number(1, 1), api.ErrForm},
 		} {

@@ -20,7 +20,7 @@ func TestNew(t *testing.T) {
 	}
 	for n := 1; n <= 16; n++ {
 		p, e := pool.New(n)
-		if p == nil || e != api.OK || p.Size() != n || p.Free() != n || len(p.Traces()) != 0 || len(p.Spans(1)) != 0 || p.Buffers(1) != 0 || p.Drop(1) != 0 {
+		if p == nil || e != api.OK || p.Size() != n || p.Free() != n || len(p.Traces()) != 0 || len(p.Spans(1)) != 0 || p.Buffers(1) != 0 || p.Drop(1) != 0 || len(p.Spans(0)) != 0 || p.Buffers(0) != 0 || p.Drop(0) != 0 {
 			t.Errorf("New(%d): %v", n, e)
 		}
 	}

@@ -127,6 +127,7 @@ func TestAnswersAreNewMemory(t *testing.T) {
 	joined := span.Join(chunks[:1])
 	joined[0].Text = "other"
 	chunks[0][1].Text = "other"
+	chunks[2][0].Text = "other"
 	if !slices.Equal(list, was) || chunks[0][0].Text == "other" || joined[1].Text == "other" {
 		t.Error("an answer shares memory with what was handed in")
 	}

@@ -145,6 +145,17 @@ func TestWrongNumbers(t *testing.T) {
 		if n := x.Int(0, most); x.Ok() != want || want && n != int(r-0x1100) {
 			t.Errorf("of the rune %x %d is read", r, n)
 		}
+		// Ahead of other digits it is one, but for a nought at the front.
+		for _, ahead := range []string{"", "\u0101"} {
+			x = wire.NewReader(ahead + string(r) + "\u1105")
+			n, want := x.Int(math.MinInt, math.MaxInt), r >= 0x1100 && r < 0x2100
+			if r >= 0x100 && r < 0x1100 {
+				want = ahead != "" || r > 0x100
+			}
+			if x.Ok() != want || !want && n != 0 {
+				t.Errorf("of the rune %x and a digit %d is read", r, n)
+			}
+		}
 	}
 }
 
